@@ -68,3 +68,49 @@ func TestNumberOfOtherLengths(t *testing.T) {
 		}
 	}
 }
+
+func TestLowBytesHaveTheLowestFirst(t *testing.T) {
+	all := []uint32{0, 1, 255, 256, 0x01020304, 0xfffefdfc, 1 << 31, math.MaxUint32}
+	before := slices.Clone(all)
+	var want []byte
+	for _, n := range all {
+		one := binary.LittleEndian.AppendUint32(nil, n)
+		if got := words.LowBytes(n); !bytes.Equal(got, one) {
+			t.Errorf("LowBytes(%x) = %x, want %x", n, got, one)
+		}
+		want = append(want, one...)
+	}
+	if got := words.LowBytes(all...); !bytes.Equal(got, want) {
+		t.Errorf("LowBytes(%x) = %x, want %x", all, got, want)
+	}
+	if got := words.LowBytes(); len(got) != 0 {
+		t.Errorf("LowBytes() = %x, want none", got)
+	}
+	if !slices.Equal(all, before) {
+		t.Errorf("LowBytes changed the numbers to %x", all)
+	}
+}
+
+func TestLowNumber(t *testing.T) {
+	for _, n := range numbers() {
+		if b := binary.LittleEndian.AppendUint64(nil, n); words.LowNumber(b) != n {
+			t.Errorf("LowNumber(%x) = %x, want %x", b, words.LowNumber(b), n)
+		}
+	}
+	cases := []struct {
+		b    []byte
+		want uint64
+	}{
+		{nil, 0},
+		{[]byte{}, 0},
+		{[]byte{7}, 7},
+		{[]byte{1, 2}, 513},
+		{[]byte{1, 2, 3, 4}, 0x04030201},
+		{[]byte{1, 2, 3, 4, 5, 6, 7, 8, 9}, 0x0807060504030201},
+	}
+	for _, c := range cases {
+		if got := words.LowNumber(c.b); got != c.want {
+			t.Errorf("LowNumber(%x) = %x, want %x", c.b, got, c.want)
+		}
+	}
+}
