@@ -1,0 +1,30 @@
+package gadget
+
+import (
+	"obol/api"
+	"obol/modular"
+)
+
+// Two is the hash of two: P12.4.
+func (m *Maker) Two(a, b int) int {
+	a, b = m.there(a), m.there(b)
+	x := b
+	for i := range uint64(api.Rounds) {
+		l := []api.Term{{V: x, K: 1}, {V: a, K: 1}, {V: 0, K: modular.Pow(api.R, 7, i+1)}}
+		x = m.product(only(m.product(l, l)), l)
+	}
+	return m.Linear([]api.Term{{V: x, K: 1}, {V: a, K: 2}, {V: b, K: 1}})
+}
+
+// Many is the hash of a list: P12.4.
+func (m *Maker) Many(l []int) int {
+	each := make([]int, len(l))
+	for i, v := range l {
+		each[i] = m.there(v)
+	}
+	h := m.Linear([]api.Term{{V: 0, K: uint64(len(l))}})
+	for _, v := range each {
+		h = m.Two(h, v)
+	}
+	return h
+}
