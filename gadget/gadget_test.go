@@ -346,6 +346,81 @@ func TestMany(t *testing.T) {
 		"2:1 10:2 16:1 | 0:1 | 17:1")
 }
 
+// P12.4: worked out beforehand, outside the project. What Linear makes, and what
+// a Two ahead makes, is there when the next Two comes; what that makes isn't.
+func TestManyOfWhatItMakes(t *testing.T) {
+	m := gadget.New()
+	checkVariable(t, m.Many([]int{1}), 8)
+	checkMade(t, m, 0, -1, []uint64{1, 81, 729, 606841, 472729139, 223473164097447289, 166765785579781847, 166765785579781850},
+		"0:1 | 0:1 | 1:1",
+		"0:7 1:2 | 0:7 1:2 | 2:1", "2:1 | 0:7 1:2 | 3:1",
+		"0:49 1:1 3:1 | 0:49 1:1 3:1 | 4:1", "4:1 | 0:49 1:1 3:1 | 5:1",
+		"0:343 1:1 5:1 | 0:343 1:1 5:1 | 6:1", "6:1 | 0:343 1:1 5:1 | 7:1",
+		"1:3 7:1 | 0:1 | 8:1")
+	m = gadget.New()
+	checkVariable(t, m.Many([]int{8, 1, 8}), 22)
+	checkMade(t, m, 0, -1, []uint64{3, 121, 1331, 1912689, 2645248887, 79814473780740745, 68440935385753591, 68440935385753598,
+		228363269287904445, 237627027452623774, 123799343538245676, 190520857814168438, 263359478391017494, 42349364804119678, 179231235575626877,
+		94501946051419946, 9849904112331979, 214354156678258003, 130580029812051183, 93500839458961472, 218350445485625809, 68793099447104199},
+		"0:3 | 0:1 | 1:1",
+		"0:8 1:1 | 0:8 1:1 | 2:1", "2:1 | 0:8 1:1 | 3:1",
+		"0:49 1:1 3:1 | 0:49 1:1 3:1 | 4:1", "4:1 | 0:49 1:1 3:1 | 5:1",
+		"0:343 1:1 5:1 | 0:343 1:1 5:1 | 6:1", "6:1 | 0:343 1:1 5:1 | 7:1",
+		"0:1 1:2 7:1 | 0:1 | 8:1",
+		"0:7 1:1 8:1 | 0:7 1:1 8:1 | 9:1", "9:1 | 0:7 1:1 8:1 | 10:1",
+		"0:49 8:1 10:1 | 0:49 8:1 10:1 | 11:1", "11:1 | 0:49 8:1 10:1 | 12:1",
+		"0:343 8:1 12:1 | 0:343 8:1 12:1 | 13:1", "13:1 | 0:343 8:1 12:1 | 14:1",
+		"1:1 8:2 14:1 | 0:1 | 15:1",
+		"0:7 8:1 15:1 | 0:7 8:1 15:1 | 16:1", "16:1 | 0:7 8:1 15:1 | 17:1",
+		"0:49 15:1 17:1 | 0:49 15:1 17:1 | 18:1", "18:1 | 0:49 15:1 17:1 | 19:1",
+		"0:343 15:1 19:1 | 0:343 15:1 19:1 | 20:1", "20:1 | 0:343 15:1 19:1 | 21:1",
+		"8:1 15:2 21:1 | 0:1 | 22:1")
+}
+
+// P12.4: what Linear, and then Two for each, make; so a number counts as what it
+// is when its Two comes, whatever variables there are.
+func TestManyIsLinearAndTwos(t *testing.T) {
+	for vars := 1; vars < 5; vars++ {
+		for v := -1; v < vars+25; v++ {
+			for _, l := range [][]int{{v}, {v, v}, {v, 1}, {1, v}, {v, vars, v}, {1, v, 2, v}, {math.MinInt, v, math.MaxInt}} {
+				given := []uint64{7, 8, 9}[:vars-1]
+				m, want := made(t, 1, given...), made(t, 1, given...)
+				told, h := m.Many(l), want.Linear([]api.Term{{K: uint64(len(l))}})
+				for _, v := range l {
+					h = want.Two(h, v)
+				}
+				checkVariable(t, told, h)
+				s, values := m.Done()
+				wantSystem, wantValues := want.Done()
+				if !reflect.DeepEqual(s, wantSystem) || !slices.Equal(values, wantValues) {
+					t.Errorf("Many(%d) of %d variables: %v, %d, want %v, %d", l, vars, s, values, wantSystem, wantValues)
+				}
+				checkHolds(t, s, values, -1)
+			}
+		}
+	}
+}
+
+// P12.4: what is no variable even at the end counts as variable 0.
+func TestManyOfNoVariables(t *testing.T) {
+	for vars := 1; vars < 4; vars++ {
+		for _, v := range append(otherVariables(vars), vars+29) {
+			if v >= vars && v < vars+29 {
+				continue
+			}
+			given := []uint64{7, 8}[:vars-1]
+			m, want := made(t, 0, given...), made(t, 0, given...)
+			m.Many([]int{1, v, 2, v})
+			want.Many([]int{1, 0, 2, 0})
+			s, values := m.Done()
+			wantSystem, wantValues := want.Done()
+			if !reflect.DeepEqual(s, wantSystem) || !slices.Equal(values, wantValues) {
+				t.Errorf("by variable %d of %d: %v, %d, want %v, %d", v, vars, s, values, wantSystem, wantValues)
+			}
+		}
+	}
+}
+
 // P12.4: of no variables it is 0.
 func TestManyOfNone(t *testing.T) {
 	for _, l := range [][]int{nil, {}} {
@@ -384,7 +459,7 @@ func TestTwoAndManyTellTheHash(t *testing.T) {
 }
 
 // A variable that there isn't counts as variable 0, in each argument: what would
-// be the next one too, though the call makes it.
+// be the next one too, though the call makes it. (Many's own list is asked later.)
 func TestNoVariables(t *testing.T) {
 	for vars := 1; vars < 4; vars++ {
 		others := append(otherVariables(vars), vars+2, vars+5, vars+6, vars+7, vars+8, vars+15)
@@ -409,8 +484,6 @@ func TestNoVariables(t *testing.T) {
 				func(m *gadget.Maker, v int) { m.Two(v, 1) },
 				func(m *gadget.Maker, v int) { m.Two(1, v) },
 				func(m *gadget.Maker, v int) { m.Two(v, v) },
-				func(m *gadget.Maker, v int) { m.Many([]int{v}) },
-				func(m *gadget.Maker, v int) { m.Many([]int{1, v, 2, v}) },
 			} {
 				m, want := made(t, 0, []uint64{7, 8}[:vars-1]...), made(t, 0, []uint64{7, 8}[:vars-1]...)
 				ask(m, v)

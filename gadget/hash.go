@@ -16,14 +16,11 @@ func (m *Maker) Two(a, b int) int {
 	return m.Linear([]api.Term{{V: x, K: 1}, {V: a, K: 2}, {V: b, K: 1}})
 }
 
-// Many is the hash of a list: P12.4.
+// Many is the hash of a list: P12.4. What a number of the list counts as is asked
+// no sooner than its Two comes, as what is made ahead of it is there by then.
 func (m *Maker) Many(l []int) int {
-	each := make([]int, len(l))
-	for i, v := range l {
-		each[i] = m.there(v)
-	}
 	h := m.Linear([]api.Term{{V: 0, K: uint64(len(l))}})
-	for _, v := range each {
+	for _, v := range l {
 		h = m.Two(h, v)
 	}
 	return h

@@ -203,12 +203,8 @@ func (m *plainMaker) Two(a, b int) int {
 }
 
 func (m *plainMaker) Many(l []int) int {
-	var those []int
-	for _, v := range l {
-		those = append(those, m.that(v))
-	}
 	h := m.linear(of(0, whole(int64(len(l)))))
-	for _, v := range those {
+	for _, v := range l {
 		h = m.Two(h, v)
 	}
 	return h
@@ -265,10 +261,14 @@ func (d drawing) variable(vars int) int {
 	return l[d.Intn(len(l))]
 }
 
+// variables are some of so many, and now and then one of those that come next.
 func (d drawing) variables(vars int) []int {
 	l := make([]int, d.Intn(4))
 	for i := range l {
 		l[i] = d.variable(vars)
+		if d.Intn(4) == 0 {
+			l[i] = vars + d.Intn(30)
+		}
 	}
 	return l
 }
